@@ -1,0 +1,1 @@
+"""Tabstops: rows of text with stops."""
